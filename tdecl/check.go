@@ -5,29 +5,63 @@ import (
 	"plinth/bind"
 	"plinth/relate"
 	"plinth/texpr"
+	"plinth/tree"
 	"plinth/tstmt"
+	"plinth/types"
 )
 
-// check gathers what is wrong in one unit of a project.
+// check gathers what is wrong in one unit of a project. The context has what the declaration that it is at speaks of.
 type check struct {
 	project *project
 	unit    int
+	symbols map[string]bind.Symbol
 	context tstmt.Context
-	diags   []api.Diag
+	// mute: a value of the unit has a type that isn't formed, so that no context with all values is right.
+	mute  bool
+	diags []api.Diag
 }
 
 func newCheck(p *project, unit int) *check {
-	k := &check{project: p, unit: unit, context: tstmt.Context{Types: p.names[unit], World: p.world}}
+	k := &check{project: p, unit: unit, symbols: map[string]bind.Symbol{}}
 	for _, s := range p.scopes[unit].Symbols {
-		d := p.declared[p.global(s)]
-		isClass := s.Kinds&1 != 0 && d.kind() == api.DClass
-		if isClass {
-			k.context.Classes = append(k.context.Classes, tstmt.Class{Name: s.Name, Global: d.global, Params: d.params})
-		} else if s.Kinds&2 != 0 {
-			k.context.Values = append(k.context.Values, tstmt.Value{Name: s.Name, Type: p.value(s), Const: true})
+		k.symbols[s.Name] = s
+		if p.isValue(s) && !types.Formed(p.value(s)) {
+			k.mute = true
 		}
 	}
 	return k
+}
+
+// enter makes the context of a declaration.
+func (k *check) enter(n api.Node) {
+	p := k.project
+	c := tstmt.Context{Types: p.scope(k.unit, n)}
+	r := p.newReach()
+	for _, one := range c.Types.Names {
+		r.name(one.Global)
+	}
+	for _, name := range tree.Names(n) {
+		s, found := k.symbols[name]
+		switch {
+		case !found:
+		case p.isValue(s):
+			t := p.value(s)
+			c.Values = append(c.Values, tstmt.Value{Name: name, Type: t, Const: true})
+			r.typed(&t)
+		case p.isClass(s):
+			d := p.declared[p.global(s)]
+			c.Classes = append(c.Classes, tstmt.Class{Name: name, Global: d.global, Params: d.params})
+			r.name(d.global)
+			for i := range d.params {
+				r.typed(&d.params[i])
+			}
+		}
+	}
+	if d := p.declared[p.global(k.symbols[n.Text])]; d != nil {
+		r.name(d.global)
+	}
+	c.World = r.world
+	k.context = c
 }
 
 func (k *check) tell(n api.Node, code int) {
@@ -66,7 +100,11 @@ func (k *check) symbol(s bind.Symbol) {
 		}
 	}
 	for _, i := range s.Decls {
-		switch n := parts[i]; n.Kind {
+		n := parts[i]
+		if !isTypeKind(n.Kind) {
+			k.enter(n)
+		}
+		switch n.Kind {
 		case api.DFunc:
 			k.signature(n)
 			k.body(k.context, n)
@@ -84,9 +122,11 @@ func (k *check) declared(d *declared, one *declaration) {
 	if one.leftOut {
 		return
 	}
+	k.enter(one.node)
 	switch d.kind() {
 	case api.DType:
-		if _, _, e := relate.Spread(k.world(one.vars), d.self(one.vars)); e != api.OK {
+		self := d.self(one.vars)
+		if _, _, e := relate.Spread(k.world(one.vars, self), self); e != api.OK {
 			k.tell(one.node, limit)
 		}
 	case api.DInterface:
@@ -100,16 +140,20 @@ func (k *check) declared(d *declared, one *declaration) {
 	}
 }
 
-// world tells the project's world with type variables ahead.
-func (k *check) world(vars []api.Var) relate.World {
-	w := k.project.world
-	w.Vars = vars
-	return w
+// world tells the project's world as far as some types speak of it, with type variables ahead.
+func (k *check) world(vars []api.Var, l ...api.Type) relate.World {
+	r := k.project.newReach()
+	for i := range l {
+		r.typed(&l[i])
+	}
+	r.vars(vars)
+	r.world.Vars = vars
+	return r.world
 }
 
 // mustFit asks whether s fits t, and tells at the node if not.
 func (k *check) mustFit(n api.Node, vars []api.Var, s, t api.Type) {
-	yes, _, e := relate.Fits(k.world(vars), s, t)
+	yes, _, e := relate.Fits(k.world(vars, s, t), s, t)
 	if e != api.OK {
 		k.tell(n, limit)
 		return
@@ -181,11 +225,17 @@ func (k *check) signature(n api.Node) api.Type {
 }
 
 func (k *check) fit(c tstmt.Context, n api.Node, t api.Type) {
+	if k.mute {
+		return
+	}
 	diags, _ := tstmt.Fit(c, n, t)
 	k.diags = append(k.diags, diags...)
 }
 
 func (k *check) body(c tstmt.Context, n api.Node) {
+	if k.mute {
+		return
+	}
 	diags, _ := tstmt.Body(c, n)
 	k.diags = append(k.diags, diags...)
 }
@@ -193,7 +243,7 @@ func (k *check) body(c tstmt.Context, n api.Node) {
 // over tells what is wrong with an overload: the function that it belongs to must fit it.
 func (k *check) over(n, function api.Node) {
 	t := k.signature(n)
-	f, _, _ := texpr.Signature(k.context.Types, function)
+	f, _, _ := texpr.Signature(k.project.scope(k.unit, function), function)
 	if t.Kind == api.KFunc && f.Kind == api.KFunc {
 		k.mustFit(n, nil, f, t)
 	}

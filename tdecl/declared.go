@@ -98,9 +98,9 @@ func ofKind(l []api.Node, kind int) []api.Node {
 	return out
 }
 
-// scope tells the scope of types of a declared type, with its variables ahead.
-func (p *project) scope(d *declared) texpr.Scope {
-	s := p.names[d.unit]
+// inside tells the scope of types of a declared type, as far as a node in it speaks of it, with its variables ahead.
+func (p *project) inside(d *declared, n api.Node) texpr.Scope {
+	s := p.scope(d.unit, n)
 	s.Vars = texts(d.varsOf(0))
 	return s
 }
@@ -114,7 +114,7 @@ func (p *project) begin(d *declared) {
 			one.tell(one.node, unlikeVars, one.node.Text)
 			continue
 		}
-		vars, diags, _ := texpr.Vars(p.names[d.unit], d.varsOf(i)...)
+		vars, diags, _ := texpr.Vars(p.scope(d.unit, d.varsOf(i)...), d.varsOf(i)...)
 		one.vars = vars
 		one.diags = append(one.diags, diags...)
 		for _, n := range ofKind(one.node.Parts, api.DExtends) {
@@ -125,7 +125,7 @@ func (p *project) begin(d *declared) {
 }
 
 func (p *project) extension(d *declared, one *declaration, n api.Node) *extension {
-	t, diags, _ := texpr.Of(p.scope(d), n.Parts[0])
+	t, diags, _ := texpr.Of(p.inside(d, n), n.Parts[0])
 	one.diags = append(one.diags, diags...)
 	x := &extension{node: n, means: t, wrong: len(diags) > 0}
 	if !x.wrong && !p.extendable(d, t) {
@@ -197,7 +197,8 @@ func (p *project) finish(d *declared) {
 	switch d.kind() {
 	case api.DType:
 		one := d.decls[0]
-		t, diags, _ := texpr.Of(p.scope(d), one.node.Parts[one.node.N])
+		n := one.node.Parts[one.node.N]
+		t, diags, _ := texpr.Of(p.inside(d, n), n)
 		one.diags = append(one.diags, diags...)
 		d.means = t
 		return
@@ -225,7 +226,7 @@ func (p *project) finish(d *declared) {
 func (p *project) parameters(d *declared) {
 	one := d.decls[0]
 	for _, n := range one.node.Parts[:one.node.N] {
-		t, diags, _ := texpr.Of(p.names[d.unit], n.Parts[0])
+		t, diags, _ := texpr.Of(p.scope(d.unit, n), n.Parts[0])
 		one.diags = append(one.diags, diags...)
 		d.params = append(d.params, t)
 	}
@@ -261,12 +262,12 @@ func (p *project) own(d *declared, one *declaration, f *fields) {
 		switch n.Kind {
 		case api.YField:
 			field.Flags = int(n.N)
-			field.Type, diags, _ = texpr.Of(p.scope(d), n.Parts[0])
+			field.Type, diags, _ = texpr.Of(p.inside(d, n), n.Parts[0])
 		case api.DHolds:
 			field.Flags = 2 * int(n.N)
-			field.Type, diags, _ = texpr.Of(p.names[d.unit], n.Parts[0])
+			field.Type, diags, _ = texpr.Of(p.scope(d.unit, n), n.Parts[0])
 		case api.DMethod:
-			field.Type, diags, _ = texpr.Signature(p.names[d.unit], n)
+			field.Type, diags, _ = texpr.Signature(p.scope(d.unit, n), n)
 		default:
 			continue
 		}

@@ -7,6 +7,7 @@ import (
 	"plinth/bind"
 	"plinth/relate"
 	"plinth/texpr"
+	"plinth/tree"
 	"plinth/types"
 )
 
@@ -19,8 +20,8 @@ type project struct {
 	numbers map[string]int
 	scopes  []bind.Scope
 	faults  []api.Diag
-	// names has the scope of types of each unit; declared the types by their global names.
-	names    []texpr.Scope
+	// names has the types that each unit may name; declared the types by their global names.
+	names    []map[string]texpr.Name
 	declared map[string]*declared
 	values   map[place]api.Type
 	world    relate.World
@@ -66,16 +67,28 @@ func (p *project) name() {
 		}
 	}
 	for _, scope := range p.scopes {
-		var names texpr.Scope
+		names := map[string]texpr.Name{}
 		for _, s := range scope.Symbols {
-			if s.Kinds&1 == 0 {
-				continue
+			if s.Kinds&1 != 0 {
+				global := p.global(s)
+				names[s.Name] = texpr.Name{Text: s.Name, Global: global, Arity: len(p.declared[global].varsOf(0))}
 			}
-			global := p.global(s)
-			names.Names = append(names.Names, texpr.Name{Text: s.Name, Global: global, Arity: len(p.declared[global].varsOf(0))})
 		}
 		p.names = append(p.names, names)
 	}
+}
+
+// scope tells the scope of types of a unit, as far as some nodes speak of it.
+func (p *project) scope(unit int, nodes ...api.Node) texpr.Scope {
+	var s texpr.Scope
+	for _, n := range nodes {
+		for _, name := range tree.Names(n) {
+			if one, found := p.names[unit][name]; found {
+				s.Names = append(s.Names, one)
+			}
+		}
+	}
+	return s
 }
 
 // found tells a declared type as it stands, without what it means.
@@ -140,14 +153,14 @@ func (p *project) valueOf(unit int, s bind.Symbol) api.Type {
 		n := p.units[unit].Node.Parts[i]
 		switch n.Kind {
 		case api.DConst:
-			t, _, _ := texpr.Of(p.names[unit], n.Parts[0])
+			t, _, _ := texpr.Of(p.scope(unit, n), n.Parts[0])
 			return t
 		case api.DOver:
-			t, _, _ := texpr.Signature(p.names[unit], n)
+			t, _, _ := texpr.Signature(p.scope(unit, n), n)
 			overs = append(overs, t)
 		case api.DFunc:
 			if len(overs) == 0 {
-				t, _, _ := texpr.Signature(p.names[unit], n)
+				t, _, _ := texpr.Signature(p.scope(unit, n), n)
 				return t
 			}
 		}

@@ -12,32 +12,53 @@ const (
 	ofTruth   = 3
 )
 
-// behind tells the context behind an expression that was yes or no.
-func (k *checker) behind(c context, n api.Node, yes bool) context {
-	switch n.Kind {
-	case api.EName:
-		return k.tested(c, n, narrow.Test{Kind: ofTruth}, yes)
-	case api.EUnary:
-		if n.Text == "!" {
-			return k.behind(c, n.Parts[0], !yes)
-		}
-	case api.EBinary:
-		return k.behindSign(c, n, yes)
+// after tells the context behind an expression that was yes or no.
+type after func(yes bool) context
+
+// flow tells the type of an expression, and the contexts behind it. What stands behind && and || is told by what was
+// found of their parts, so that long chains of them are gone through once.
+func (k *checker) flow(c context, n api.Node) (api.Type, after) {
+	if n.Kind == api.EUnary && n.Text == "!" {
+		return k.not(c, n)
 	}
-	return c
+	if n.Kind == api.EBinary && (n.Text == "&&" || n.Text == "||") {
+		return k.logic(c, n)
+	}
+	return k.expr(c, n), func(yes bool) context { return k.behind(c, n, yes) }
 }
 
-func (k *checker) behindSign(c context, n api.Node, yes bool) context {
-	first, second := n.Parts[0], n.Parts[1]
-	switch n.Text {
-	case "===":
-		return k.equal(c, first, second, yes)
-	case "!==":
-		return k.equal(c, first, second, !yes)
-	case "&&", "||":
-		if yes == (n.Text == "&&") {
-			return k.behind(k.behind(c, first, yes), second, yes)
+func (k *checker) not(c context, n api.Node) (api.Type, after) {
+	x, part := k.flow(c, n.Parts[0])
+	t := boolean()
+	if !k.alone(c, n, x, "boolean") {
+		t = k.wrong(n, wrongSign, n.Text)
+	}
+	return t, func(yes bool) context { return part(!yes) }
+}
+
+func (k *checker) logic(c context, n api.Node) (api.Type, after) {
+	goesOn := n.Text == "&&"
+	x, first := k.flow(c, n.Parts[0])
+	y, second := k.flow(first(goesOn), n.Parts[1])
+	t := boolean()
+	if !k.bothAlone(c, n, x, y, "boolean") {
+		t = k.wrong(n, wrongSign, n.Text)
+	}
+	return t, func(yes bool) context {
+		if yes == goesOn {
+			return second(yes)
 		}
+		return c
+	}
+}
+
+// behind tells the context behind an expression that is none of the signs !, && and ||.
+func (k *checker) behind(c context, n api.Node, yes bool) context {
+	if n.Kind == api.EName {
+		return k.tested(c, n, narrow.Test{Kind: ofTruth}, yes)
+	}
+	if n.Kind == api.EBinary && (n.Text == "===" || n.Text == "!==") {
+		return k.equal(c, n.Parts[0], n.Parts[1], yes == (n.Text == "==="))
 	}
 	return c
 }

@@ -23,9 +23,9 @@ func (k *checker) fit(c context, n api.Node, t api.Type) {
 			return
 		}
 	case api.ECond:
-		k.condition(c, n)
-		k.fit(k.behind(c, n.Parts[0], true), n.Parts[1], t)
-		k.fit(k.behind(c, n.Parts[0], false), n.Parts[2], t)
+		_, behind := k.condition(c, n)
+		k.fit(behind(true), n.Parts[1], t)
+		k.fit(behind(false), n.Parts[2], t)
 		return
 	}
 	k.mustFit(c, n, k.expr(c, n), t, misfit)

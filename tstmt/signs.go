@@ -5,39 +5,39 @@ import (
 	"plinth/types"
 )
 
-func (k *checker) unary(c context, n api.Node) api.Type {
-	x := k.expr(c, n.Parts[0])
-	kind, t := "number", api.Type{Kind: api.KNumber}
-	if n.Text == "!" {
-		kind, t = "boolean", boolean()
-	}
-	if !k.alone(c, n, x, kind) {
+// minus tells the type of an EUnary with the sign -.
+func (k *checker) minus(c context, n api.Node) api.Type {
+	if !k.alone(c, n, k.expr(c, n.Parts[0]), "number") {
 		return k.wrong(n, wrongSign, n.Text)
 	}
+	return api.Type{Kind: api.KNumber}
+}
+
+func (k *checker) unary(c context, n api.Node) api.Type {
+	if n.Text == "-" {
+		return k.minus(c, n)
+	}
+	t, _ := k.not(c, n)
 	return t
 }
 
 func (k *checker) binary(c context, n api.Node) api.Type {
-	x := k.expr(c, n.Parts[0])
-	switch n.Text {
-	case "&&":
-		c = k.behind(c, n.Parts[0], true)
-	case "||":
-		c = k.behind(c, n.Parts[0], false)
+	if n.Text == "&&" || n.Text == "||" {
+		t, _ := k.logic(c, n)
+		return t
 	}
+	x := k.expr(c, n.Parts[0])
 	y := k.expr(c, n.Parts[1])
-	kind, t := "number", boolean()
+	t := boolean()
 	switch n.Text {
 	case "===", "!==":
 		return t
 	case "+":
 		return k.plus(c, n, x, y)
-	case "&&", "||":
-		kind = "boolean"
 	case "-", "*", "/", "%":
 		t = api.Type{Kind: api.KNumber}
 	}
-	if !k.bothAlone(c, n, x, y, kind) {
+	if !k.bothAlone(c, n, x, y, "number") {
 		return k.wrong(n, wrongSign, n.Text)
 	}
 	return t

@@ -35,8 +35,8 @@ func (k *checker) stat(c context, n api.Node, named map[string]struct{}) (contex
 	case api.SIf:
 		return k.branches(c, n)
 	case api.SWhile:
-		k.condition(c, n)
-		k.block(k.behind(c, n.Parts[0], true), n.Parts[1])
+		_, behind := k.condition(c, n)
+		k.block(behind(true), n.Parts[1])
 	case api.STry:
 		first := k.block(c, n.Parts[0])
 		second := k.block(c.with(n.Text, api.Type{Kind: api.KUnknown}, true), n.Parts[1])
@@ -116,8 +116,8 @@ func (k *checker) back(c context, n api.Node) {
 }
 
 func (k *checker) branches(c context, n api.Node) (context, bool) {
-	k.condition(c, n)
-	yes, no := k.behind(c, n.Parts[0], true), k.behind(c, n.Parts[0], false)
+	_, behind := k.condition(c, n)
+	yes, no := behind(true), behind(false)
 	first, second := k.block(yes, n.Parts[1]), false
 	if n.N == 1 {
 		second = k.block(no, n.Parts[2])
