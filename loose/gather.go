@@ -12,6 +12,14 @@ type Gathered struct {
 	Types []api.Type
 }
 
+// Stands tells what the name stands for: the union of what it gathered, or KUnknown, if that was nothing.
+func (g Gathered) Stands() api.Type {
+	if len(g.Types) == 0 {
+		return api.Type{Kind: api.KUnknown}
+	}
+	return types.Union(g.Types...)
+}
+
 // Gather holds t against the pattern p, and tells what each name of its places gathered, rising by the names.
 func Gather(t, p api.Type) []Gathered {
 	g := gatherer{}

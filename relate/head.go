@@ -135,14 +135,11 @@ func (r *run) branch(t, p api.Type) api.Type {
 	return r.head(need(subst.Of(t.Parts[2], append(binds, asked...)...)))
 }
 
+// gather tells what the places of q stand for, with p held against it.
 func gather(p, q api.Type) []cond.Found {
 	var l []cond.Found
 	for _, g := range loose.Gather(p, q) {
-		with := api.Type{Kind: api.KUnknown}
-		if len(g.Types) > 0 {
-			with = types.Union(g.Types...)
-		}
-		l = append(l, cond.Found{Name: g.Name, Type: with})
+		l = append(l, cond.Found{Name: g.Name, Type: g.Stands()})
 	}
 	return l
 }

@@ -10,7 +10,7 @@ import (
 
 // kindName tells a short name for a Node's kind.
 func kindName(kind int) string {
-	names := map[int]string{
+	names := [...]string{
 		api.YName: "Name", api.YNum: "Num", api.YStr: "Str", api.YArray: "Array", api.YTuple: "Tuple", api.YFunc: "Func",
 		api.YObject: "Object", api.YField: "Field", api.YUnion: "Union", api.YBoth: "Both", api.YKeyof: "Keyof",
 		api.YIndex: "Index", api.YMapped: "Mapped", api.YCond: "Cond", api.YInfer: "Infer", api.YParam: "Param",
@@ -24,10 +24,10 @@ func kindName(kind int) string {
 		api.DExtends: "DExtends", api.DClass: "DClass", api.DMeets: "DMeets", api.DHolds: "DHolds",
 		api.DMethod: "DMethod", api.DFunc: "DFunc", api.DOver: "DOver", api.DConst: "DConst", api.DFile: "DFile",
 	}
-	if s := names[kind]; s != "" {
-		return s
+	if kind < 0 || kind >= len(names) || names[kind] == "" {
+		return "?" + strconv.Itoa(kind)
 	}
-	return "?" + strconv.Itoa(kind)
+	return names[kind]
 }
 
 // Dump tells a tree: of each node its kind, its text behind a colon, N behind #, M behind !, its place behind @, its parts in brackets.
