@@ -3,6 +3,7 @@ package relate
 import (
 	"plinth/api"
 	"plinth/loose"
+	"plinth/types"
 )
 
 func (r *run) fits(s, t api.Type) bool {
@@ -10,10 +11,14 @@ func (r *run) fits(s, t api.Type) bool {
 	if plainly(s, t) {
 		return true
 	}
-	if (s.Kind == api.KRef || t.Kind == api.KRef) && r.supposed(s, t) {
+	if s.Kind != api.KRef && t.Kind != api.KRef {
+		return r.looked(s, t)
+	}
+	now := asking{s: s, t: t, nodes: [2]int{types.Nodes(s), types.Nodes(t)}, rows: r.rows}
+	if r.supposed(&now) {
 		return true
 	}
-	r.asked = append(r.asked, asking{&s, &t, r.rows})
+	r.asked = append(r.asked, now)
 	yes := r.looked(s, t)
 	r.asked = r.asked[:len(r.asked)-1]
 	return yes
@@ -24,10 +29,11 @@ func plainly(s, t api.Type) bool {
 	return t.Kind == api.KAny || t.Kind == api.KUnknown || s.Kind == api.KNever || same(s, t)
 }
 
-// supposed tells whether it is being asked just now whether s fits t, with a row gone into since.
-func (r *run) supposed(s, t api.Type) bool {
-	for _, a := range r.asked {
-		if a.rows < r.rows && same(*a.s, s) && same(*a.t, t) {
+// supposed tells whether the same is being asked just now, with a row gone into since.
+func (r *run) supposed(now *asking) bool {
+	for i := range r.asked {
+		a := &r.asked[i]
+		if a.rows < now.rows && a.nodes == now.nodes && same(a.s, now.s) && same(a.t, now.t) {
 			return true
 		}
 	}

@@ -14,10 +14,12 @@ type run struct {
 	rows        int
 }
 
-// asking is a question whether s fits t that is being asked, and how many rows had been gone into ahead of it.
+// asking is a question whether s fits t, one of them a KRef, that is being asked: how many nodes they have (so that types
+// that grow are quickly told from one another), and how many rows had been gone into ahead of it.
 type asking struct {
-	s, t *api.Type
-	rows int
+	s, t  api.Type
+	nodes [2]int
+	rows  int
 }
 
 // stop is what a run is given up with.
