@@ -126,7 +126,11 @@ func TestFill(t *testing.T) {
 		{"infer V", "V = infer V", "infer V"},
 		{"[infer V]", "V = [infer V]; W = 1", "[[infer V]]"},
 	} {
-		got, e := cond.Fill(testkit.T(x[0]), found(x[1])...)
+		p := testkit.T(x[0])
+		got, e := cond.Fill(p, found(x[1])...)
+		if testkit.Text(p) != testkit.Text(testkit.T(x[0])) {
+			t.Errorf("%s is changed", x[0])
+		}
 		if e != api.OK || types.Order(got, testkit.T(x[2])) != 0 {
 			t.Errorf("%s with %s: %s %d, not %s", x[0], x[1], testkit.Text(got), e, x[2])
 		}

@@ -54,7 +54,7 @@ func (r odd) typ(depth int) api.Type {
 		t.Fields = append(t.Fields, api.Field{Name: r.text(), Flags: r.Intn(5) - 1, Type: r.typ(depth - 1)})
 	}
 	for depth > 0 && r.Intn(5) == 0 {
-		t.Vars = append(t.Vars, r.vars(depth - 1)...)
+		t.Vars = append(t.Vars, r.vars(depth-1)...)
 	}
 	return t
 }

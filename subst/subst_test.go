@@ -95,7 +95,11 @@ func TestOf(t *testing.T) {
 		{"V = A extends infer V ? [V, T] : V", "T = V", "V' = A extends infer V' ? [V', V] : V'"},
 	} {
 		want := testkit.T(x[2])
-		got, e := subst.Of(testkit.T(x[0]), binds(x[1])...)
+		from := testkit.T(x[0])
+		got, e := subst.Of(from, binds(x[1])...)
+		if types.Order(from, testkit.T(x[0])) != 0 {
+			t.Errorf("%s is changed", x[0])
+		}
 		if types.Order(got, want) != 0 || e != api.OK {
 			t.Errorf("%s with %s: %s %d, not %s", x[0], x[1], testkit.Text(got), e, x[2])
 		}

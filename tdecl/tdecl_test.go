@@ -185,6 +185,10 @@ func TestWrong(t *testing.T) {
 	if d, e := tdecl.Check("b", units(t, "a: "+large, "b: const x: null = 1;")...); told(d, "b") != "24@16" || e != api.OK {
 		t.Error(d, e)
 	}
+	wide := "function f(x: number): null; function f(x: " + half + ", y: " + half + "): 1; function f(x: unknown, y: unknown): never { throw 1; } const x: any = f(1, 2, 3); const y: 1 = f(1);"
+	if d, e := tdecl.Check("f", units(t, "f: "+wide)...); e != api.OK || !strings.HasPrefix(told(d, "f"), "24@0; 12@29; 24@") {
+		t.Error("an overload that is too large makes all of them any", told(d, "f"), e)
+	}
 	for _, s := range []string{"interface A<T> { a: [T, T]; } interface B extends A<" + half + "> { b: 1; } const x: B = { b: 1 };"} {
 		if w, e := tdecl.World("f", units(t, "f: "+s)...); e != api.OK || testkit.Text(w.Decls[1].Type) != "{ b: 1; }" {
 			t.Error("fields that are too large are none", e)
