@@ -309,3 +309,103 @@ func TestOrder(t *testing.T) {
 		}
 	}
 }
+
+// isA tells whether a value, told as a type that it alone has, is of a type without names, variables and functions.
+func isA(v, t api.Type) bool {
+	switch t.Kind {
+	case api.KAny, api.KUnknown:
+		return true
+	case api.KNumber:
+		return v.Kind == api.KNum
+	case api.KString:
+		return v.Kind == api.KStr
+	case api.KUnion:
+		return slices.ContainsFunc(t.Parts, func(p api.Type) bool { return isA(v, p) })
+	case api.KArray:
+		return v.Kind == api.KTuple && !slices.ContainsFunc(v.Parts, func(p api.Type) bool { return !isA(p, t.Parts[0]) })
+	case api.KTuple:
+		return v.Kind == api.KTuple && slices.EqualFunc(v.Parts, t.Parts, isA)
+	case api.KObject:
+		return v.Kind == api.KObject && !slices.ContainsFunc(t.Fields, func(f api.Field) bool {
+			i := slices.IndexFunc(v.Fields, func(g api.Field) bool { return g.Name == f.Name })
+			return i < 0 && f.Flags&1 == 0 || i >= 0 && !isA(v.Fields[i].Type, f.Type)
+		})
+	}
+	return types.Order(v, t) == 0
+}
+
+// some makes a value of a type, if it has one.
+func some(r *rand.Rand, t api.Type) (api.Type, bool) {
+	var parts []api.Type
+	each := func(l ...api.Type) bool {
+		for _, p := range l {
+			v, found := some(r, p)
+			if !found {
+				return false
+			}
+			parts = append(parts, v)
+		}
+		return true
+	}
+	switch t.Kind {
+	case api.KNever, api.KFunc:
+		return api.Type{}, false
+	case api.KAny, api.KUnknown:
+		return testkit.T([]string{"null", "1", `"z"`, "[2]", "{ q: 3; }"}[r.Intn(5)]), true
+	case api.KNumber:
+		return testkit.T([]string{"1", "7"}[r.Intn(2)]), true
+	case api.KString:
+		return testkit.T([]string{`"a"`, `"s"`}[r.Intn(2)]), true
+	case api.KUnion:
+		return some(r, t.Parts[r.Intn(len(t.Parts))])
+	case api.KArray:
+		return api.Type{Kind: api.KTuple, Parts: parts}, r.Intn(2) == 0 || each(t.Parts[0]) && each(t.Parts[0])
+	case api.KTuple:
+		ok := each(t.Parts...)
+		return api.Type{Kind: api.KTuple, Parts: parts}, ok
+	case api.KObject:
+		v := api.Type{Kind: api.KObject, Fields: []api.Field{{Name: "z", Type: api.Type{Kind: api.KNull}}}}
+		for _, f := range t.Fields {
+			if f.Flags&1 != 0 && r.Intn(2) == 0 {
+				continue
+			}
+			one, found := some(r, f.Type)
+			if !found {
+				return api.Type{}, false
+			}
+			v.Fields = append(v.Fields, api.Field{Name: f.Name, Type: one})
+		}
+		return v, true
+	}
+	return t, true
+}
+
+// P15.4
+func TestMeaning(t *testing.T) {
+	r := rand.New(rand.NewSource(154))
+	w := relate.World{Fuel: api.MaxFuel}
+	asked := 0
+	for range 60000 {
+		s := plain(r, 2)
+		u := plain(r, 2)
+		if r.Intn(3) == 0 {
+			u = types.Union(s, u)
+		}
+		v, found := some(r, s)
+		if !found {
+			continue
+		}
+		if !isA(v, s) {
+			t.Fatal(testkit.Text(v), testkit.Text(s))
+		}
+		if fits, _, e := relate.Fits(w, s, u); fits && e == api.OK {
+			asked++
+			if !isA(v, u) {
+				t.Fatal(testkit.Text(v), testkit.Text(s), testkit.Text(u))
+			}
+		}
+	}
+	if asked < 1000 {
+		t.Error(asked)
+	}
+}
