@@ -138,6 +138,7 @@ func TestDeep(t *testing.T) {
 		{"function f(): A {" + many + "} } type B = C; type D = E;", "2:56"},
 		{"function f(): A {" + many + "} } ; } } type B = C; type D = E;", "2:56 1:62 1:64 1:66"},
 		{"const a: A = [[1, (2)], {b: 3}];" + strings.Repeat("const a: A = [[1, (2)], {b: 3}];", 40), ""},
+		{"((( ; { [ } " + strings.Repeat("type A = "+strings.Repeat("[", 40)+strings.Repeat("]", 40)+"; ", 2), "1:0 1:6"},
 		{strings.Repeat("const a: A = (1; ", 50), everyWrong(50)},
 	} {
 		if _, diags, e := pfile.File(x[0]); said(diags) != x[1] || e != api.OK {

@@ -82,7 +82,7 @@ func TestKinds(t *testing.T) {
 		{"9223372036854775808", "b:9223372036854775808"},
 		{"9223372036854775807x", "b:9223372036854775807x"},
 		{"-1", "S:- I:1"},
-		{"_a$9 $ _ aB", "n:_a$9 n:$ n:_ n:aB"},
+		{"_a$9 $ _ aB zAZ", "n:_a$9 n:$ n:_ n:aB n:zAZ"},
 		{"typeof typeofx Type type", "w:typeof n:typeofx n:Type w:type"},
 		{"/* x", "b:/* x"},
 		{"/*/", "b:/*/"},
@@ -97,7 +97,7 @@ func TestKinds(t *testing.T) {
 		{"éé a", "b:éé n:a"},
 		{"aé", "n:a b:é"},
 		{"@é", "b:@ b:é"},
-		{"\x80\xff1", "b:\x80\xff I:1"},
+		{"\x80\xff1", "b:\x80\xff I:1"}, {"\xff\x80\x80a", "b:\xff\x80\x80 n:a"}, {"//\n//\na", "n:a"},
 		{"\v", "b:\v"},
 		{`""`, "s:"},
 		{`"\\\"\t"`, "s:\\\"\t"},
@@ -151,7 +151,7 @@ func TestWords(t *testing.T) {
 			t.Error(got)
 		}
 	}
-	for _, s := range []string{"a", "Z", "_", "$", "a1", "Import", "imports", "of", "length", "undefined", "void", "var"} {
+	for _, s := range []string{"a", "z", "A", "Z", "az", "AZ", "a0", "a9", "_", "$", "a1", "Import", "imports", "of", "length", "undefined", "void", "var"} {
 		if scan.Reserved(s) || !scan.IsName(s) {
 			t.Errorf("%q is a name", s)
 		}

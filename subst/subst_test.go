@@ -147,6 +147,7 @@ func TestLarge(t *testing.T) {
 		{testkit.T("<A extends T>(T) => A"), tuple(2047, null), api.ErrLarge},
 		{testkit.T("T | U"), tuple(api.MaxParts-1, null), api.ErrLarge},
 		{testkit.T("{ a: T; }"), tuple(api.MaxParts-1, null), api.ErrLarge},
+		{api.Type{Kind: api.KMapped, Text: "K", Parts: []api.Type{v, tuple(2000, null)}}, tuple(2100, null), api.ErrLarge},
 		{testkit.T("T | any | infer V"), tuple(api.MaxParts-1, null), api.OK},
 	} {
 		got, e := subst.Of(x.t, subst.Bind{Name: "T", Type: x.with})

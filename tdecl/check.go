@@ -51,7 +51,6 @@ func (k *check) enter(n api.Node) {
 		case p.isClass(s):
 			d := p.declared[p.global(s)]
 			c.Classes = append(c.Classes, tstmt.Class{Name: name, Global: d.global, Params: d.params})
-			r.name(d.global)
 			for i := range d.params {
 				r.typed(&d.params[i])
 			}

@@ -41,7 +41,6 @@ func (r *reach) name(global string) {
 	r.seen[global] = struct{}{}
 	r.world.Decls = append(r.world.Decls, relate.Decl{Name: global, Vars: d.vars, Type: d.means})
 	r.typed(&d.means)
-	r.vars(d.vars)
 }
 
 // typed takes the names that stand in a type.

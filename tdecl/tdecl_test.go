@@ -73,12 +73,14 @@ func TestCheck(t *testing.T) {
 		{"interface A<T> { a: T; } interface A<T> { b: T; } const x: A<1> = { a: 1, b: 1 };", ""}, {"interface A<T> { } interface A<T extends nobody> { } interface A<T, U> { }", "8@41 nobody; 13@53 A"}, {"interface A<T> { } interface A { }", "13@19 A"},
 		{"interface A { a: number; a: string; } interface A { b: null; a: nobody; } const x: A = { a: 1, b: null };", "9@25 a; 9@61 a; 8@64 nobody"},
 		{"interface A extends nobody { }", "8@20 nobody"}, {"interface A extends B { } type B = { };", "14@20"}, {"interface A<T> extends T { }", "14@23"}, {"interface A extends B<1> { } interface B { }", "7@20 B"}, {"interface A extends C { } class C() { }", ""},
-		{"interface A extends B { } interface B extends A { }", "15@20; 15@46"}, {"interface A extends B { } interface B extends C { } interface C extends B { }", "15@46; 15@72"}, {"interface A extends A, B { a: 1; } interface B { b: 2; } const x: A = { a: 1, b: 2 };", "15@20"},
+		{"interface A extends B { } interface B extends A { }", "15@20; 15@46"}, {"interface A extends B { } interface B extends C { } interface C extends B { }", "15@46; 15@72"}, {"interface A extends X { } interface X extends B { } interface B extends C { } interface C extends B { }", "15@70; 15@96"}, {"interface A extends A, B { a: 1; } interface B { b: 2; } const x: A = { a: 1, b: 2 };", "15@20"},
 		{"interface A { a: number; } interface B extends A { a: 5; } interface C extends A { a: string; } interface D extends A { a?: number; }", "24@79; 24@116"}, {"interface A<T> { a: T; } interface B<T> extends A<T[]> { b: T; } const x: B<1> = { a: [1], b: 1 };", ""},
 		{"interface A<T> { a: T; } interface B<T extends number> extends A<number> { a: T; } interface C<T> extends A<number> { a: T; }", "24@106"}, {"interface A { a: 1; } interface B { a: 2; b: 3; } interface C extends A, B { } const x: C = { a: 1, b: 3 };", "24@73"},
 		{"interface B { b: 1; } interface A { a: 1; } interface A extends B { c: 1; } const x: A = { a: 1, b: 1, c: 1 }; const y: A = { a: 1, c: 1 };", "24@124"}, {"interface A<T> { a: T; } interface B<T> extends A<T> { } interface B<U> extends nobody { } const x: B<1> = { a: 1 };", "13@57 B"},
 		{"interface A { m: () => A; } interface B extends A { m: () => B; }", ""}, {"interface A extends L { } type L = L; interface L2 extends A { }", "14@20; 27@26"}, {"interface A { l: L; } type L = L; interface B extends A { l: 1; }", "27@22; 27@54"},
+		{"type Num = 5; interface Base { a: number; } interface A<T extends Num> extends Base { a: T; }", ""}, {"type Num = number; function f<T extends Num>(x: T): T { return x; }", ""}, {"type Num = number; function f<T extends Num>(x: T): T { return x; } const a: number = f(5); const b: unknown = f(null);", "21@111"}, {"interface T { } interface A<T> extends T { }", "14@39"},
 		// classes
+		{"class C(x: number | null) { a: number = x === null ? 0 : x; }", ""}, {"class C() { a: number = 1; } const x: { a: number; } = new C();", ""},
 		{"class C(a: nobody) { }", "8@11 nobody"}, {"class C(a: number, a: string) { b: string = a; }", ""}, {"class C() extends nobody() { }", "8@18 nobody"}, {"interface I { } class C() extends I() { }", "14@34"}, {"type A = { }; class C() extends A(nobody) { }", "14@32"}, {"class C() extends C() { }", "15@18"}, {"class C() extends D() { } class D() extends C() { }", "15@18; 15@44"},
 		{"class P(a: number) { } class Q() extends P() { }", "21@41"}, {"class P(a: number) { } class Q() extends P(nobody, 1) { }", "21@41"}, {"class P(a: number, b: string) { } class Q(a: string, n: number) extends P(a, n) { }", "24@74; 24@77"}, {"class P(a: number) { } class Q(a: string, a: number) extends P(a) { }", ""}, {"class P(a: number) { } class Q() extends P(this) { }", "24@43; 26@43"},
 		{"class P() { a: number = 1; } class Q() extends P() { a: 5 = 5; } class R() extends P() { a: string = \"\"; } class S() extends P() { mut a: number = 1; }", "24@83"}, {"class P() { mut a: number = 1; } class Q() extends P() { a: number = 1; }", "24@51"}, {"class P() { a: number = 1; b: null = null; } class Q() extends P() { c: null = null; } const x: { a: number; b: null; c: null; } = new Q();", ""},
@@ -188,6 +190,10 @@ func TestWrong(t *testing.T) {
 	wide := "function f(x: number): null; function f(x: " + half + ", y: " + half + "): 1; function f(x: unknown, y: unknown): never { throw 1; } const x: any = f(1, 2, 3); const y: 1 = f(1);"
 	if d, e := tdecl.Check("f", units(t, "f: "+wide)...); e != api.OK || !strings.HasPrefix(told(d, "f"), "24@0; 12@29; 24@") {
 		t.Error("an overload that is too large makes all of them any", told(d, "f"), e)
+	}
+	wide = "function f(x: number): null; function f(x: " + half + ", y: " + half + "): null { throw 1; }"
+	if d, e := tdecl.Check("f", units(t, "f: "+wide)...); e != api.OK || told(d, "f") != "12@29" {
+		t.Error("a function that is too large is not held against its overloads", told(d, "f"), e)
 	}
 	for _, s := range []string{"interface A<T> { a: [T, T]; } interface B extends A<" + half + "> { b: 1; } const x: B = { b: 1 };"} {
 		if w, e := tdecl.World("f", units(t, "f: "+s)...); e != api.OK || testkit.Text(w.Decls[1].Type) != "{ b: 1; }" {

@@ -43,7 +43,7 @@ func TestOf(t *testing.T) {
 		{"any", "any", ""}, {"unknown", "unknown", ""}, {"never", "never", ""}, {"null", "null", ""}, {"number", "number", ""}, {"string", "string", ""}, {"true", "true", ""}, {"false", "false", ""}, {"boolean", "true | false", ""},
 		{"5", "5", ""}, {`"a\n"`, `"a\n"`, ""}, {"T[]", "T[]", ""}, {"[T, U, 1]", "[T, U, 1]", ""}, {"[]", "[]", ""}, {"keyof T", "keyof T", ""}, {"T[U]", "T[U]", ""}, {"(a: T, b: U) => null", "(T, U) => null", ""}, {"() => T", "() => T", ""},
 		{"Box<number>", "box'<number>", ""}, {"Two<T, Box<U>>", "two<T, box'<U>>", ""}, {"one", "one''", ""},
-		{"Box", "any", "7@0 Box"}, {"Box<1, 2>", "any", "7@0 Box"}, {"one<1>", "any", "7@0 one"}, {"T<1>", "any", "7@0 T"}, {"Odd", "any", "7@0 Odd"}, {"nobody", "any", "8@0 nobody"}, {"nobody<T>", "any", "8@0 nobody"}, {"[nobody, V]", "[any, any]", "8@1 nobody; 8@9 V"},
+		{"Box", "any", "7@0 Box"}, {"Box<1, 2>", "any", "7@0 Box"}, {"one<1>", "any", "7@0 one"}, {"T<1>", "any", "7@0 T"}, {"U<1>", "any", "7@0 U"}, {"{ b: 1; } & { a: 2; }", "{ a: 2; b: 1; }", ""}, {"Odd", "any", "7@0 Odd"}, {"nobody", "any", "8@0 nobody"}, {"nobody<T>", "any", "8@0 nobody"}, {"[nobody, V]", "[any, any]", "8@1 nobody; 8@9 V"},
 		{"nobody<Box, V<W>>", "any", "7@7 Box; 8@14 W; 8@12 V; 8@0 nobody"}, {"T<nobody>", "any", "8@2 nobody; 7@0 T"}, {"Box<nobody>", "box'<any>", "8@4 nobody"},
 		{"{ }", "{ }", ""}, {"{ b: T; mut a?: U; mut c: null; d?: null; }", "{ mut a?: U; b: T; mut c: null; d?: null; }", ""}, {"{ a: 1; a: 2; }", "{ a: 1; }", "9@8 a"}, {"{ a: T; b: nobody; a: V; mut b: U; }", "{ a: T; b: any; }", "8@11 nobody; 9@19 a; 9@25 b"},
 		{"number | 5 | null", "null | number", ""}, {"(T | U) | T", "T | U", ""}, {"never | any | 1", "any", ""}, {"nobody | 1", "any", "8@0 nobody"},
