@@ -45,8 +45,8 @@ func (r *Tokens) Whole(part func() api.Node) (api.Node, int, api.Errno) {
 // try reads a part, and catches the fault with which its reading is given up.
 func (r *Tokens) try(part func() api.Node) (n api.Node, wrong fault) {
 	defer func() {
-		if told := recover(); told != nil {
-			n, wrong = api.Node{}, told.(fault)
+		if told, gaveUp := recover().(fault); gaveUp {
+			n, wrong = api.Node{}, told
 		}
 	}()
 	return part(), fault{}
