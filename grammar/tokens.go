@@ -20,15 +20,18 @@ type Tokens struct {
 	open int
 }
 
-// Load takes the tokens of a text. It tells whether the text could be cut.
-func (r *Tokens) Load(s string) bool {
+// Load takes the tokens of a text. What scan refuses a text with is handed on, so that no face names an error of its own.
+func (r *Tokens) Load(s string) api.Errno {
 	list, e := scan.Cut(s)
 	*r = Tokens{list: list}
-	return e == api.OK
+	return e
 }
 
-// Whole reads with the part that is handed to it, which must be all of the text.
-func (r *Tokens) Whole(part func() api.Node) (api.Node, int, api.Errno) {
+// Whole reads a text with the part that is handed to it, which must be all of the text.
+func (r *Tokens) Whole(s string, part func() api.Node) (api.Node, int, api.Errno) {
+	if e := r.Load(s); e != api.OK {
+		return api.Node{}, 0, e
+	}
 	n, wrong := r.try(func() api.Node {
 		n := part()
 		if r.now().Kind != api.TEnd {

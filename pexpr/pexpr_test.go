@@ -324,15 +324,15 @@ func TestDeep(t *testing.T) {
 }
 
 // P6.1: more tokens than scan takes.
-func TestLong(t *testing.T) {
+func TestLarge(t *testing.T) {
 	s := "a" + strings.Repeat("+a", api.MaxTokens/2-1)
 	if n, at, e := pexpr.Expr(s); n.Kind != api.EBinary || at != 0 || e != api.OK {
 		t.Error(n.Kind, at, e)
 	}
-	if n, at, e := pexpr.Expr(s + "+a"); n.Kind != 0 || at != 0 || e != api.ErrLong {
+	if n, at, e := pexpr.Expr(s + "+a"); n.Kind != 0 || at != 0 || e != api.ErrLarge {
 		t.Error(n.Kind, at, e)
 	}
-	if n, at, e := pexpr.Block(strings.Repeat("} ", api.MaxTokens+1)); n.Kind != 0 || at != 0 || e != api.ErrLong {
+	if n, at, e := pexpr.Block(strings.Repeat("} ", api.MaxTokens+1)); n.Kind != 0 || at != 0 || e != api.ErrLarge {
 		t.Error(n.Kind, at, e)
 	}
 }

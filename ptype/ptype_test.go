@@ -182,15 +182,21 @@ func TestDeep(t *testing.T) {
 }
 
 // P5.1: more tokens than scan takes.
-func TestLong(t *testing.T) {
+func TestLarge(t *testing.T) {
 	s := "A" + strings.Repeat("|A", api.MaxTokens/2-1)
 	if n, at, e := ptype.Type(s); len(n.Parts) != api.MaxTokens/2 || at != 0 || e != api.OK {
 		t.Error(len(n.Parts), at, e)
 	}
-	if n, at, e := ptype.Type(s + "|A"); n.Kind != 0 || at != 0 || e != api.ErrLong {
+	// With the last | there are MaxTokens tokens just so: the text is cut, and found to end too early.
+	if n, at, e := ptype.Type(s + "|"); n.Kind != 0 || at != len(s)+1 || e != api.ErrSyntax {
 		t.Error(n.Kind, at, e)
 	}
-	if n, at, e := ptype.Type(strings.Repeat("@ ", api.MaxTokens+1)); n.Kind != 0 || at != 0 || e != api.ErrLong {
-		t.Error(n.Kind, at, e)
+	for _, many := range []string{
+		s + "|A", s + "| // A\n@", strings.Repeat("A|", api.MaxTokens/2+1), strings.Repeat("@ ", api.MaxTokens+1),
+		strings.Repeat("(", api.MaxTokens+1), strings.Repeat("A ", api.MaxTokens+1), strings.Repeat("\"\"", api.MaxTokens+1),
+	} {
+		if n, at, e := ptype.Type(many); n.Kind != 0 || len(n.Parts) != 0 || at != 0 || e != api.ErrLarge {
+			t.Errorf("%.9q: %d %d %d", many, n.Kind, at, e)
+		}
 	}
 }
