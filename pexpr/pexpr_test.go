@@ -329,10 +329,23 @@ func TestLarge(t *testing.T) {
 	if n, at, e := pexpr.Expr(s); n.Kind != api.EBinary || at != 0 || e != api.OK {
 		t.Error(n.Kind, at, e)
 	}
-	if n, at, e := pexpr.Expr(s + "+a"); n.Kind != 0 || at != 0 || e != api.ErrLarge {
+	// With the last + there are MaxTokens tokens just so: the text is cut, and found to end too early.
+	if n, at, e := pexpr.Expr(s + "+"); n.Kind != 0 || at != len(s)+1 || e != api.ErrSyntax {
 		t.Error(n.Kind, at, e)
 	}
-	if n, at, e := pexpr.Block(strings.Repeat("} ", api.MaxTokens+1)); n.Kind != 0 || at != 0 || e != api.ErrLarge {
+	b := "{" + strings.Repeat("{}", api.MaxTokens/2-1) + "}"
+	if n, at, e := pexpr.Block(b); n.Kind != api.SBlock || len(n.Parts) != api.MaxTokens/2-1 || at != 0 || e != api.OK {
 		t.Error(n.Kind, at, e)
+	}
+	for _, many := range []string{
+		s + "+a", s + "+ // a\n@", strings.Repeat("a+", api.MaxTokens/2+1), strings.Repeat("} ", api.MaxTokens+1), b + "{",
+		strings.Repeat("{}", api.MaxTokens/2+1), strings.Repeat("(", api.MaxTokens+1), strings.Repeat("@ ", api.MaxTokens+1),
+	} {
+		if n, at, e := pexpr.Expr(many); n.Kind != 0 || len(n.Parts) != 0 || at != 0 || e != api.ErrLarge {
+			t.Errorf("Expr %.9q: %d %d %d", many, n.Kind, at, e)
+		}
+		if n, at, e := pexpr.Block(many); n.Kind != 0 || len(n.Parts) != 0 || at != 0 || e != api.ErrLarge {
+			t.Errorf("Block %.9q: %d %d %d", many, n.Kind, at, e)
+		}
 	}
 }
