@@ -208,17 +208,21 @@ func (k *checker) function(c context, n api.Node) api.Type {
 
 // chosen tells the type of an ECond.
 func (k *checker) chosen(c context, n api.Node) api.Type {
-	behind := k.condition(c, n.Parts[0])
+	right, behind := k.condition(c, n)
 	yes := k.expr(behind(true), n.Parts[1])
 	no := k.expr(behind(false), n.Parts[2])
+	if !right {
+		return anyType()
+	}
 	return types.Union(yes, no)
 }
 
-// condition asks whether a condition is boolean alone, and tells the contexts behind it.
-func (k *checker) condition(c context, n api.Node) after {
-	x, behind := k.flow(c, n)
+// condition asks whether the first part of n is boolean alone, and tells the contexts behind it.
+func (k *checker) condition(c context, n api.Node) (bool, after) {
+	x, behind := k.flow(c, n.Parts[0])
 	if !k.alone(c, n, x, "boolean") {
 		k.tell(n, wrongSign, "if")
+		return false, behind
 	}
-	return behind
+	return true, behind
 }

@@ -23,7 +23,7 @@ func (k *checker) fit(c context, n api.Node, t api.Type) {
 			return
 		}
 	case api.ECond:
-		behind := k.condition(c, n.Parts[0])
+		_, behind := k.condition(c, n)
 		k.fit(behind(true), n.Parts[1], t)
 		k.fit(behind(false), n.Parts[2], t)
 		return

@@ -35,7 +35,7 @@ func (k *checker) stat(c context, n api.Node, named map[string]struct{}) (contex
 	case api.SIf:
 		return k.branches(c, n)
 	case api.SWhile:
-		behind := k.condition(c, n.Parts[0])
+		_, behind := k.condition(c, n)
 		k.block(behind(true), n.Parts[1])
 	case api.STry:
 		first := k.block(c, n.Parts[0])
@@ -116,7 +116,7 @@ func (k *checker) back(c context, n api.Node) {
 }
 
 func (k *checker) branches(c context, n api.Node) (context, bool) {
-	behind := k.condition(c, n.Parts[0])
+	_, behind := k.condition(c, n)
 	yes, no := behind(true), behind(false)
 	first, second := k.block(yes, n.Parts[1]), false
 	if n.N == 1 {
